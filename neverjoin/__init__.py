@@ -1,0 +1,1 @@
+"""Books that cut every endless text in the same number of ways."""

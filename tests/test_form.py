@@ -1,0 +1,198 @@
+"""The form of the package: the plain part of the language that its files keep to, and the interface that they have."""
+
+import ast
+import builtins
+import importlib
+import inspect
+import os
+import unittest
+
+FOLDER = os.path.join(os.path.dirname(os.path.dirname(os.path.abspath(__file__))), "neverjoin")
+FILES = sorted(name for name in os.listdir(FOLDER) if name != "__pycache__")
+LIBRARY = {"heapq": {"heappush", "heappop"}}
+CALLED = {
+    "len", "range", "enumerate", "zip", "min", "max", "sum", "abs", "sorted", "reversed", "int", "str", "bool", "list",
+    "tuple", "dict", "set", "isinstance", "ord", "repr", "any", "all", "divmod",
+}
+METHODS = {
+    "append", "clear", "copy", "count", "endswith", "extend", "find", "get", "index", "insert", "items", "join", "keys",
+    "pop", "replace", "reverse", "setdefault", "split", "startswith", "strip", "update", "values", "bit_length",
+}
+NODES = (
+    ast.Module, ast.Expr, ast.Constant, ast.ImportFrom, ast.alias, ast.FunctionDef, ast.ClassDef, ast.arguments, ast.arg,
+    ast.Return, ast.Assign, ast.AugAssign, ast.If, ast.While, ast.For, ast.Raise, ast.Break, ast.Continue, ast.Pass,
+    ast.Call, ast.keyword, ast.Name, ast.Attribute, ast.Subscript, ast.Slice, ast.Tuple, ast.List, ast.Dict, ast.ListComp,
+    ast.DictComp, ast.comprehension, ast.BoolOp, ast.UnaryOp, ast.BinOp, ast.Compare, ast.IfExp, ast.expr_context,
+    ast.boolop, ast.unaryop, ast.operator, ast.cmpop,
+)
+KEYWORDS = {"key", "default", "reverse", "start"}
+DUNDERS = {"__init__", "__eq__"}
+BARRED = {"type", "typing", "enum", "register", "mro", "elements", "open", "input", "law"}
+INTERFACE = {
+    "webs": "Web letters after before is_stretch ends pairs surplus",
+    "stretches": "many_stretches number_of stretches rings round_rings stretch_at least_ring is_ring",
+    "making": "free_web ring_web turned renamed rows_web left_out",
+    "likeness": "lies_in are_like unlike_text",
+    "settling": "settled",
+    "books": "Book clash",
+    "readings": "comings readings ways reading_at is_reading words_of many_rows",
+    "frames": "row_at row_number frame told_by longest_row first_with",
+}
+
+
+def text_of(name):
+    with open(os.path.join(FOLDER, name), encoding="ascii") as file:
+        return file.read()
+
+
+TREES = {name[:-3]: ast.parse(text_of(name)) for name in FILES}
+
+
+def nodes(kind):
+    return [(name, node) for name, tree in TREES.items() for node in ast.walk(tree) if isinstance(node, kind)]
+
+
+def own_methods():
+    return {part.name for _, node in nodes(ast.ClassDef) for part in node.body if isinstance(part, ast.FunctionDef)}
+
+
+class Form(unittest.TestCase):
+    def test_files(self):
+        for name in FILES:
+            self.assertRegex(name, r"^[a-z_]+\.py$")
+            text = text_of(name)
+            lines = text.split("\n")
+            self.assertLess(len(lines), 400, name)
+            self.assertNotRegex(text, r"[^\n -~]", name)
+            for line in lines:
+                self.assertLessEqual(len(line), 120, (name, line))
+        self.assertLessEqual(len(FILES), 100)
+
+    def test_functions_are_short(self):
+        for name, node in nodes(ast.FunctionDef):
+            self.assertLessEqual(node.end_lineno - node.lineno + 1, 40, (name, node.name))
+            self.assertEqual(node.decorator_list, [])
+            self.assertTrue(not node.name.startswith("__") or node.name in DUNDERS, (name, node.name))
+
+    def test_only_plain_nodes(self):
+        for name, node in nodes(ast.AST):
+            self.assertIsInstance(node, NODES, (name, getattr(node, "lineno", None)))
+            self.assertNotIsInstance(node, (ast.Div, ast.MatMult))
+            if isinstance(node, ast.Constant):
+                self.assertIn(type(node.value), (int, str, bool, type(None)))
+            if isinstance(node, ast.Compare) and any(isinstance(sign, (ast.Is, ast.IsNot)) for sign in node.ops):
+                self.assertIsNone(node.comparators[0].value)
+
+    def test_imports(self):
+        needs = {name: set() for name in TREES}
+        for name, node in nodes(ast.ImportFrom):
+            self.assertIn(node, TREES[name].body)
+            words = [alias.name for alias in node.names]
+            self.assertTrue(all(alias.asname is None for alias in node.names))
+            if node.module in LIBRARY:
+                self.assertLessEqual(set(words), LIBRARY[node.module])
+                continue
+            folder, module = node.module.split(".")
+            self.assertEqual(folder, "neverjoin")
+            defined = {part.name for part in TREES[module].body if isinstance(part, (ast.FunctionDef, ast.ClassDef))}
+            self.assertLessEqual(set(words), defined, name)
+            used = {one.id for one in ast.walk(TREES[name]) if isinstance(one, ast.Name)}
+            self.assertLessEqual(set(words), used, name)
+            needs[name].add(module)
+        while needs:
+            free = [name for name in needs if not needs[name]]
+            self.assertTrue(free, needs)
+            needs = {name: needs[name] - set(free) for name in needs if name not in free}
+
+    def test_names(self):
+        for name, tree in TREES.items():
+            imported = {alias.name for node in tree.body if isinstance(node, ast.ImportFrom) for alias in node.names}
+            classes = {node.name for node in tree.body if isinstance(node, ast.ClassDef)}
+            bound = [node.id for node in ast.walk(tree) if isinstance(node, ast.Name) and isinstance(node.ctx, ast.Store)]
+            bound += [node.arg for node in ast.walk(tree) if isinstance(node, ast.arg)]
+            for word in bound:
+                self.assertNotIn(word, imported | classes | set(dir(builtins)) | BARRED, (name, word))
+            top = [node.name for node in tree.body if isinstance(node, (ast.FunctionDef, ast.ClassDef))]
+            self.assertEqual(len(top), len(set(top)))
+            for word in top:
+                self.assertNotIn(word, imported | set(dir(builtins)) | BARRED, (name, word))
+
+    def test_calls(self):
+        own = own_methods()
+        for name, node in nodes(ast.Call):
+            for keyword in node.keywords:
+                self.assertIn(keyword.arg, KEYWORDS, (name, node.lineno))
+            self.assertFalse(any(isinstance(one, ast.Starred) for one in node.args))
+            if isinstance(node.func, ast.Attribute):
+                self.assertIn(node.func.attr, METHODS | own, (name, node.lineno))
+                continue
+            self.assertIsInstance(node.func, ast.Name)
+            if node.func.id in dir(builtins):
+                self.assertIn(node.func.id, CALLED, (name, node.lineno))
+
+    def test_sets_stand_in_sorted_or_len(self):
+        held = {id(node.args[0]) for _, node in nodes(ast.Call) if getattr(node.func, "id", "") in ("sorted", "len")}
+        for name, node in nodes(ast.Call):
+            if getattr(node.func, "id", "") == "set":
+                self.assertIn(id(node), held, (name, node.lineno))
+
+    def test_ranges_and_views_are_gone_over_at_once(self):
+        held = {id(node.iter) for _, node in nodes((ast.For, ast.comprehension))}
+        for _, node in nodes(ast.Call):
+            if getattr(node.func, "id", "") in ("sorted", "list", "tuple", "sum", "reversed", "enumerate"):
+                held.add(id(node.args[0]))
+        for name, node in nodes(ast.Call):
+            word = getattr(node.func, "id", getattr(node.func, "attr", ""))
+            if word in ("range", "zip", "enumerate", "reversed", "items", "keys", "values"):
+                self.assertIn(id(node), held, (name, node.lineno))
+
+    def test_attributes_are_assigned_or_methods(self):
+        assigned = {node.attr for _, node in nodes(ast.Attribute) if isinstance(node.ctx, ast.Store)}
+        for name, node in nodes(ast.Attribute):
+            self.assertIn(node.attr, assigned | own_methods() | METHODS, (name, node.lineno))
+
+    def test_module_level_is_plain(self):
+        for name, tree in TREES.items():
+            for node in tree.body:
+                self.assertIsInstance(node, (ast.Expr, ast.ImportFrom, ast.FunctionDef, ast.ClassDef, ast.Assign))
+                if isinstance(node, (ast.Expr, ast.Assign)):
+                    self.assertIsInstance(node.value, ast.Constant, name)
+
+    def test_each_thing_has_a_docstring(self):
+        for name, tree in TREES.items():
+            self.assertTrue(ast.get_docstring(tree), name)
+            for node in tree.body:
+                if isinstance(node, (ast.FunctionDef, ast.ClassDef)):
+                    self.assertTrue(ast.get_docstring(node), (name, node.name))
+
+
+class Interface(unittest.TestCase):
+    def test_names_are_defined_where_they_are_listed(self):
+        for module, words in INTERFACE.items():
+            found = importlib.import_module("neverjoin." + module)
+            for word in words.split():
+                self.assertEqual(getattr(found, word).__module__, "neverjoin." + module)
+
+    def test_equality_is_of_the_class_itself(self):
+        for module, word in (("webs", "Web"), ("books", "Book")):
+            kind = getattr(importlib.import_module("neverjoin." + module), word)
+            self.assertIn("__eq__", vars(kind))
+
+    def test_arguments(self):
+        listed = {
+            "webs": {"Web": "points arrows", "letters": "web", "is_stretch": "web thing", "pairs": "web text"},
+            "stretches": {"stretch_at": "web length number", "is_ring": "web thing", "least_ring": "web"},
+            "making": {"free_web": "letters", "left_out": "letters texts", "renamed": "web names"},
+            "likeness": {"lies_in": "one other", "unlike_text": "one other"},
+            "books": {"Book": "web words", "clash": "texts"},
+            "readings": {"reading_at": "book text place", "is_reading": "book text thing", "many_rows": "book length"},
+            "frames": {"row_at": "book length number", "told_by": "book text places", "first_with": "book many"},
+        }
+        for module, words in listed.items():
+            for word, names in words.items():
+                kind = getattr(importlib.import_module("neverjoin." + module), word)
+                self.assertEqual(list(inspect.signature(kind).parameters), names.split())
+
+
+if __name__ == "__main__":
+    unittest.main()
