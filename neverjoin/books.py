@@ -22,6 +22,13 @@ class Book:
         return isinstance(other, Book) and self.web == other.web and self.words == other.words
 
 
+def wide_book(web, words):
+    """A book of any size; who makes it sees to it that the rest is right."""
+    book = Book(web, ())
+    book.words = tuple(sorted(words))
+    return book
+
+
 def wrong_part(web, words):
     """The part that BadBook tells of words, None if they are the words of a book."""
     if not are_words(words):

@@ -5,7 +5,7 @@ from neverjoin.errors import NoNumber, NoPlaces, NoRow, TooLong
 from neverjoin.kinds import ask_number, is_integer, is_number, is_row
 from neverjoin.masks import Moves, all_points, letter_moves, walked
 from neverjoin.readings import comings, cuts_from, reading_at, readings, words_of
-from neverjoin.tracing import Trace
+from neverjoin.tracing import Trace, first_state, read_on
 
 LONGEST = 200
 MOST_READINGS = 30
@@ -102,7 +102,7 @@ def first_with(book, many):
     ask_number(1, MOST_READINGS, many)
     moves = letter_moves(book.web)
     trace = Trace(book.words)
-    start = (all_points(book.web), "", 1)
+    start = first_state(book.web)
     seen = {start: True}
     level = {start: ""}
     # Each level goes by ascending texts, so the first text that fits is the least one.
@@ -117,20 +117,6 @@ def first_with(book, many):
                     found[after] = level[state] + letter
         level = found
     return None
-
-
-def read_on(moves, trace, state):
-    """The list of pairs (letter, state) behind a state: mask, head, and number of readings."""
-    mask, head, times = state
-    found = []
-    for letter, after in moves.listed(mask):
-        begun, ended = trace.step(head, letter)
-        if ended:
-            found.append((letter, (after, begun, times)))
-        else:
-            # No word ends at the new place, so a reading of its own begins there.
-            found.append((letter, (after, begun, times + 1)))
-    return found
 
 
 def told_by(book, text, places):

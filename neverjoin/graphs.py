@@ -1,4 +1,4 @@
-"""Steps between states: triples (state, letter, state), the states being integers or strings."""
+"""Steps between states: triples (state, letter, state), the states being integers, strings or pairs of these."""
 
 
 def links(steps):
@@ -57,3 +57,39 @@ def last_part(states, steps):
             last = state
             seen.update(reached(behind, state))
     return reached(links(steps), last)
+
+
+def shortest_row(leading, starts, goals):
+    """The list of the marks on a shortest way from one of some states to one of others, None if there is none.
+
+    What is leading has for each state the list of pairs (mark, state).
+    """
+    level = {start: [] for start in starts}
+    seen = {start: True for start in starts}
+    while level:
+        found = {}
+        for state in level:
+            if state in goals:
+                return level[state]
+            for mark, end in leading[state]:
+                if end not in seen:
+                    seen[end] = True
+                    found[end] = level[state] + [mark]
+        level = found
+    return None
+
+
+def round_text(steps):
+    """The text of steps that come round, None if none do."""
+    kept = lasting(steps)
+    if not kept:
+        return None
+    onward = {begin: (letter, end) for begin, letter, end in kept}
+    state = kept[0][0]
+    places = {}
+    text = ""
+    while state not in places:
+        places[state] = len(text)
+        letter, state = onward[state]
+        text += letter
+    return text[places[state]:]

@@ -3,6 +3,7 @@
 from heapq import heappop, heappush
 
 from neverjoin.masks import all_points, letter_moves, points_of
+from neverjoin.webs import arrows_from
 
 
 def lies_in(one, other):
@@ -27,14 +28,6 @@ def lies_in(one, other):
                 return False
             heappush(waiting, (len(points_of(led[letter])), end, led[letter]))
     return True
-
-
-def arrows_from(web):
-    """The list that has for each point the pairs (letter, point) of the arrows from there."""
-    found = [[] for _ in range(web.points)]
-    for begin, letter, end in web.arrows:
-        found[begin].append((letter, end))
-    return found
 
 
 def is_covered(asked, mask):

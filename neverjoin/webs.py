@@ -51,6 +51,14 @@ def letter_rows(points, arrows):
     return rows
 
 
+def arrows_from(web):
+    """The list that has for each point the pairs (letter, point) of the arrows from there."""
+    found = [[] for _ in range(web.points)]
+    for begin, letter, end in web.arrows:
+        found[begin].append((letter, end))
+    return found
+
+
 def wrong_part(points, arrows):
     """The part that BadWeb tells of two things, None if they make a web."""
     if not is_number(1, MOST_POINTS, points):

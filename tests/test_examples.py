@@ -1,12 +1,19 @@
-"""The examples of the document that speak of what there is: e01 to e04, and of e15 two."""
+"""The examples of the document that speak of what there is: e01 to e11, and of e15 three."""
 
 import unittest
 
 from neverjoin.books import Book, clash
+from neverjoin.exchanges import path
 from neverjoin.frames import frame
-from neverjoin.making import free_web
+from neverjoin.full import all_ways, is_addable
+from neverjoin.inner import barred, inner, made, word_count
+from neverjoin.lanes import lanes, turn
+from neverjoin.listing import many_books
+from neverjoin.making import free_web, ring_web
 from neverjoin.readings import readings, ways
 from neverjoin.stretches import is_ring, many_stretches, round_rings
+from neverjoin.tower import less, more
+from neverjoin.towers import address
 from neverjoin.webs import Web, after, surplus
 
 
@@ -32,7 +39,37 @@ class Examples(unittest.TestCase):
     def test_e04(self):
         self.assertEqual(clash(("ab", "b")), ("b", "ab"))
 
+    def test_e05(self):
+        self.assertEqual(all_ways(self.three), 3)
+        self.assertIsNone(all_ways(Book(self.f, ("a",))))
+        self.assertIs(is_addable(Book(self.f, ("a",)), "bab"), True)
+
+    def test_e06(self):
+        self.assertEqual(lanes(self.three, "aab"), [((0, 1), 2), ((2,), 1)])
+        self.assertEqual(turn(self.three, "aab"), (2, 1, 0))
+
+    def test_e07(self):
+        self.assertEqual(inner(self.three), ("ab",))
+        self.assertIs(made(self.f, ("ab",), 3) == self.three, True)
+        kind, ring = barred(self.f, ("a",), 2)
+        self.assertEqual((kind, ring), ("ring", "a" * max(1, len(ring))))
+
+    def test_e08(self):
+        self.assertEqual(word_count(self.three), (3, 5, 9))
+
+    def test_e09(self):
+        self.assertIs(less(self.three) == self.two, True)
+        self.assertEqual(len(more(self.two)), 3)
+
+    def test_e10(self):
+        self.assertEqual([many_books(self.g, ways) for ways in (1, 2, 3, 4)], [1, 2, 4, 20])
+        self.assertEqual(many_books(ring_web("abc"), 2), 7)
+
+    def test_e11(self):
+        self.assertEqual(path(self.three, made(self.f, (), 3)), [("out", "ab")])
+
     def test_e15(self):
+        self.assertEqual(len(address(self.three)), 2)
         self.assertEqual(frame(self.two, "b"), ("", "a"))
         self.assertEqual(round_rings(self.f, 4), ["aaab", "aabb", "abbb"])
 

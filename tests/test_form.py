@@ -23,7 +23,7 @@ NODES = (
     ast.Return, ast.Assign, ast.AugAssign, ast.If, ast.While, ast.For, ast.Raise, ast.Break, ast.Continue, ast.Pass,
     ast.Call, ast.keyword, ast.Name, ast.Attribute, ast.Subscript, ast.Slice, ast.Tuple, ast.List, ast.Dict, ast.ListComp,
     ast.DictComp, ast.comprehension, ast.BoolOp, ast.UnaryOp, ast.BinOp, ast.Compare, ast.IfExp, ast.expr_context,
-    ast.boolop, ast.unaryop, ast.operator, ast.cmpop,
+    ast.boolop, ast.unaryop, ast.operator, ast.cmpop, ast.Lambda,
 )
 KEYWORDS = {"key", "default", "reverse", "start"}
 DUNDERS = {"__init__", "__eq__"}
@@ -37,6 +37,15 @@ INTERFACE = {
     "books": "Book clash",
     "readings": "comings readings ways reading_at is_reading words_of many_rows",
     "frames": "row_at row_number frame told_by longest_row first_with",
+    "full": "is_full is_addable is_loose is_misfit all_ways addable loose misfit",
+    "thin": "thin settling ways_counts",
+    "lanes": "lanes lane_words turns turn since",
+    "jumps": "jumps ring_book word_steps word_parts",
+    "inner": "inner made barred is_barred word_count",
+    "tower": "less more",
+    "listing": "all_books many_books book_number book_at sizes filled cheapest",
+    "towers": "layers address book_by",
+    "exchanges": "put_in taken_out exchanges path is_path",
 }
 
 
@@ -95,6 +104,7 @@ class Form(unittest.TestCase):
             folder, module = node.module.split(".")
             self.assertEqual(folder, "neverjoin")
             defined = {part.name for part in TREES[module].body if isinstance(part, (ast.FunctionDef, ast.ClassDef))}
+            defined |= {part.targets[0].id for part in TREES[module].body if isinstance(part, ast.Assign)}
             self.assertLessEqual(set(words), defined, name)
             used = {one.id for one in ast.walk(TREES[name]) if isinstance(one, ast.Name)}
             self.assertLessEqual(set(words), used, name)
@@ -187,6 +197,29 @@ class Interface(unittest.TestCase):
             "books": {"Book": "web words", "clash": "texts"},
             "readings": {"reading_at": "book text place", "is_reading": "book text thing", "many_rows": "book length"},
             "frames": {"row_at": "book length number", "told_by": "book text places", "first_with": "book many"},
+            "full": {
+                "is_full": "book", "all_ways": "book", "addable": "book", "is_addable": "book thing", "loose": "book many",
+                "is_loose": "book many thing", "misfit": "web texts", "is_misfit": "web texts thing",
+            },
+            "thin": {"thin": "book", "settling": "book", "ways_counts": "book length"},
+            "lanes": {
+                "lanes": "book ring", "lane_words": "book ring", "turns": "book length", "turn": "book ring", "since": "book ring",
+            },
+            "jumps": {"jumps": "book ring", "ring_book": "text jumps", "word_steps": "book", "word_parts": "book"},
+            "inner": {
+                "inner": "book", "made": "web lot ways", "barred": "web lot ways", "is_barred": "web lot ways thing",
+                "word_count": "book",
+            },
+            "tower": {"less": "book", "more": "book"},
+            "listing": {
+                "all_books": "web ways", "many_books": "web ways", "book_number": "book", "book_at": "web ways number",
+                "sizes": "web ways", "filled": "book ways", "cheapest": "web ways prices",
+            },
+            "towers": {"layers": "book", "address": "book", "book_by": "web address"},
+            "exchanges": {
+                "put_in": "book text", "taken_out": "book text", "exchanges": "book", "path": "one other",
+                "is_path": "one other thing",
+            },
         }
         for module, words in listed.items():
             for word, names in words.items():
