@@ -5,14 +5,21 @@ from neverjoin.full import ask_full
 from neverjoin.stretches import is_ring, rings
 
 
-def sizes_round(words, ring):
+def by_sizes(words):
+    """The list of pairs (size, dict of True for the words of so many letters), shorter ones first."""
+    found = {size: {} for size in sorted(set([len(word) for word in words]))}
+    for word in words:
+        found[len(word)][word] = True
+    return list(found.items())
+
+
+def sizes_round(sized, ring):
     """The list of the numbers of letters of the words of a full book that begin at the places of a ring."""
-    known = {word: True for word in words}
-    sizes = sorted(set([len(word) for word in words]))
-    text = ring * (sizes[-1] // len(ring) + 2)
+    longest, _ = sized[-1]
+    text = ring * (longest // len(ring) + 2)
     found = []
     for place in range(len(ring)):
-        found += [size for size in sizes if text[place:place + size] in known]
+        found += [size for size, words in sized if text[place:place + size] in words]
     return found
 
 
@@ -21,7 +28,7 @@ def ask_sizes(book, ring):
     ask_full(book)
     if not is_ring(book.web, ring):
         raise NoRing()
-    return sizes_round(book.words, ring)
+    return sizes_round(by_sizes(book.words), ring)
 
 
 def places_round(sizes):
@@ -84,4 +91,5 @@ def since(book, ring):
 def turns(book, length):
     """The ascending list of the unlike turns of all rings of a length."""
     ask_full(book)
-    return sorted(set([turned_round(sizes_round(book.words, ring)) for ring in rings(book.web, length)]))
+    sized = by_sizes(book.words)
+    return sorted(set([turned_round(sizes_round(sized, ring)) for ring in rings(book.web, length)]))
