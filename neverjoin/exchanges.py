@@ -5,7 +5,7 @@ from neverjoin.full import ask_full, clashes
 from neverjoin.graphs import shortest_row
 from neverjoin.inner import find_bar, inner, lot_book, thick_word
 from neverjoin.kinds import is_row, is_text
-from neverjoin.listing import books_beside
+from neverjoin.listing import listed_books
 from neverjoin.webs import is_stretch
 
 
@@ -66,7 +66,7 @@ def path(one, other):
     many = ask_full(one)
     if ask_full(other) != many or not one.web == other.web:
         raise NoPath()
-    lots = [inner(book) for book in books_beside(one, many)]
+    lots = [inner(book) for book in listed_books(one.web, many)]
     return shortest_row(exchanges_between(lots), [inner(one)], [inner(other)])
 
 

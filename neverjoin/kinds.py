@@ -2,6 +2,8 @@
 
 from neverjoin.errors import NoNumber
 
+MOST_FIGURES = 9
+
 
 def is_integer(thing):
     """Whether a thing is an integer; flags are none."""
@@ -27,6 +29,18 @@ def is_text(thing):
 def is_long_text(least, most, thing):
     """Whether a thing is a text of least to most letters."""
     return is_text(thing) and least <= len(thing) <= most
+
+
+def is_letter(thing):
+    """Whether a thing is a string of one letter."""
+    return is_long_text(1, 1, thing)
+
+
+def is_decimal(string):
+    """Whether a string is a number in few figures, without a sign and needless zeros."""
+    if not 1 <= len(string) <= MOST_FIGURES or not all(["0" <= sign <= "9" for sign in string]):
+        return False
+    return string == "0" or string[0] != "0"
 
 
 def is_row(thing):

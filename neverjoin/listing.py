@@ -4,7 +4,7 @@ from neverjoin.books import wide_book
 from neverjoin.errors import NoNumber, NoPrices, TooMany
 from neverjoin.full import ask_full
 from neverjoin.inner import MOST_WAYS
-from neverjoin.kinds import ask_number, is_long_text, is_number
+from neverjoin.kinds import ask_number, is_letter, is_number
 from neverjoin.rising import MOST_BOOKS, word_lists_above
 from neverjoin.tower import ask_few_outer, sorted_books
 from neverjoin.webs import letters
@@ -12,10 +12,15 @@ from neverjoin.webs import letters
 HIGHEST_PRICE = 99
 
 
+def book_of_letters(web):
+    """The full book with one way: that of all letters."""
+    return wide_book(web, list(letters(web)))
+
+
 def levels(web, ways):
     """The list of the lists of all full books with 1 to so many ways."""
     ask_number(1, MOST_WAYS, ways)
-    found = [[wide_book(web, list(letters(web)))]]
+    found = [[book_of_letters(web)]]
     while len(found) < ways:
         found.append(level_above(found[-1]))
     return found
@@ -51,15 +56,15 @@ def book_at(web, ways, number):
 
 def book_number(book):
     """The number of a full book among those of its web and ways."""
-    books = books_beside(book, ask_full(book))
+    books = listed_books(book.web, ask_full(book))
     return [other.words for other in books].index(book.words)
 
 
-def books_beside(book, many):
-    """The list that has a full book with so many ways in it: TooMany if these are more than can be listed."""
+def listed_books(web, many):
+    """The list of all full books with the ways of one that there is: TooMany if these cannot be listed."""
     if many > MOST_WAYS:
         raise TooMany(MOST_WAYS)
-    return all_books(book.web, many)
+    return all_books(web, many)
 
 
 def sizes(web, ways):
@@ -100,7 +105,7 @@ def are_prices(web, thing):
     if not isinstance(thing, dict) or len(thing) != len(web.onward):
         return False
     # Keys of other kinds may be there, so what stands there is asked before it is looked up.
-    if not all([is_long_text(1, 1, key) and is_number(0, HIGHEST_PRICE, thing[key]) for key in thing]):
+    if not all([is_letter(key) and is_number(0, HIGHEST_PRICE, thing[key]) for key in thing]):
         return False
     return all([key in web.onward for key in thing])
 

@@ -2,7 +2,7 @@
 
 from neverjoin.errors import NoLetters, NoNames, NoText, NoTexts, TooMany
 from neverjoin.graphs import all_joined, lasting
-from neverjoin.kinds import are_ascending, is_long_text, is_row
+from neverjoin.kinds import are_ascending, is_letter, is_long_text, is_row
 from neverjoin.webs import Web, web_of, wide_web
 
 MOST_LETTERS = 12
@@ -49,7 +49,7 @@ def are_names(web, thing):
     if not isinstance(thing, dict) or len(thing) != len(web.onward):
         return False
     # Keys of other kinds may be there, so what stands there is asked before it is looked up.
-    if not all([is_long_text(1, 1, key) and is_long_text(1, 1, thing[key]) for key in thing]):
+    if not all([is_letter(key) and is_letter(thing[key]) for key in thing]):
         return False
     return all([key in web.onward for key in thing]) and len(set(list(thing.values()))) == len(thing)
 

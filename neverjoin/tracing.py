@@ -15,24 +15,45 @@ class Trace:
         self.heads = {word[:size]: True for word in words for size in range(len(word))}
         self.heads[""] = True
         self.shorter = {}
+        self.ended = {}
         self.known = {}
 
-    def endings(self, head):
-        """The list of the heads with which a head ends, longest first, the empty one last."""
-        found = self.shorter.get(head)
-        if found is None:
-            found = [head[start:] for start in range(len(head) + 1) if head[start:] in self.heads]
-            self.shorter[head] = found
-        return found
+    def link(self):
+        """Find for each beginning of a word, or whole word, the longest other one and the word with which it ends."""
+        self.shorter[""] = ""
+        self.ended[""] = ""
+        for text in sorted({**self.heads, **self.words}, key=len)[1:]:
+            self.shorter[text] = ""
+            if len(text) > 1:
+                self.shorter[text] = self.longest(self.shorter[text[:-1]], text[-1])
+            self.ended[text] = text
+            if text not in self.words:
+                self.ended[text] = self.ended[self.shorter[text]]
+
+    def longest(self, head, letter):
+        """The longest beginning of a word, or whole word, with which a beginning and a letter behind it end."""
+        while head != "" and not self.begins(head + letter):
+            head = self.shorter[head]
+        if self.begins(head + letter):
+            return head + letter
+        return ""
+
+    def begins(self, text):
+        """Whether a text begins a word or is one."""
+        return text in self.heads or text in self.words
 
     def step(self, head, letter):
         """The pair (head, word) behind a letter more: the word that ends there, the empty text if none does."""
         found = self.known.get((head, letter))
         if found is None:
-            # A word or a head that ends here has just such an ending ahead of its last letter.
-            texts = [ending + letter for ending in self.endings(head)] + [""]
-            words = [text for text in texts if text in self.words] + [""]
-            found = ([text for text in texts if text in self.heads][0], words[0])
+            if not self.shorter:
+                self.link()
+            text = self.longest(head, letter)
+            longer = text
+            if text in self.words:
+                # No word ends with another one, so what is next is none.
+                longer = self.shorter[text]
+            found = (longer, self.ended[text])
             self.known[(head, letter)] = found
         return found
 

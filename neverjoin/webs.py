@@ -2,7 +2,7 @@
 
 from neverjoin.errors import BadWeb, NoStretch
 from neverjoin.graphs import all_joined, led_back
-from neverjoin.kinds import are_ascending, is_long_text, is_number, is_text
+from neverjoin.kinds import are_ascending, is_letter, is_number, is_text
 from neverjoin.masks import all_points, begun, points_of, step, walked
 
 MOST_POINTS = 12
@@ -84,7 +84,7 @@ def is_arrow(points, thing):
     begin, letter, end = thing
     if not is_number(0, points - 1, begin) or not is_number(0, points - 1, end):
         return False
-    return is_long_text(1, 1, letter)
+    return is_letter(letter)
 
 
 def letters(web):
