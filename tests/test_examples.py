@@ -1,8 +1,11 @@
-"""The examples of the document that speak of what there is: e01 to e11, and of e15 three."""
+"""The examples of the document: e01 to e16."""
 
 import unittest
 
 from neverjoin.books import Book, clash
+from neverjoin.carried import cut_down
+from neverjoin.chances import mean
+from neverjoin.dividing import divisors
 from neverjoin.exchanges import path
 from neverjoin.frames import frame
 from neverjoin.full import all_ways, is_addable
@@ -11,7 +14,9 @@ from neverjoin.lanes import lanes, turn
 from neverjoin.listing import many_books
 from neverjoin.making import free_web, ring_web
 from neverjoin.readings import readings, ways
+from neverjoin.strangers import sure_cuts
 from neverjoin.stretches import is_ring, many_stretches, round_rings
+from neverjoin.texts import web_text
 from neverjoin.tower import less, more
 from neverjoin.towers import address
 from neverjoin.webs import Web, after, surplus
@@ -68,10 +73,23 @@ class Examples(unittest.TestCase):
     def test_e11(self):
         self.assertEqual(path(self.three, made(self.f, (), 3)), [("out", "ab")])
 
+    def test_e12(self):
+        self.assertEqual(cut_down(self.three, self.g).words, ("aaa", "aaba", "ab", "baa", "baba"))
+
+    def test_e13(self):
+        self.assertEqual(mean(self.two, ((1, 3), (2, 3))), ((1, 1), (2, 1)))
+
+    def test_e14(self):
+        self.assertEqual(sure_cuts(self.two, "ab"), ())
+
     def test_e15(self):
+        self.assertIs(divisors(made(self.f, (), 4)) == [self.two], True)
         self.assertEqual(len(address(self.three)), 2)
         self.assertEqual(frame(self.two, "b"), ("", "a"))
         self.assertEqual(round_rings(self.f, 4), ["aaab", "aabb", "abbb"])
+
+    def test_e16(self):
+        self.assertEqual(web_text(ring_web("aab")), "points 3\narrow 0 a 1\narrow 1 a 2\narrow 2 b 0\n")
 
 
 if __name__ == "__main__":

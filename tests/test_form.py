@@ -9,21 +9,21 @@ import unittest
 
 FOLDER = os.path.join(os.path.dirname(os.path.dirname(os.path.abspath(__file__))), "neverjoin")
 FILES = sorted(name for name in os.listdir(FOLDER) if name != "__pycache__")
-LIBRARY = {"heapq": {"heappush", "heappop"}}
+LIBRARY = {"heapq": {"heappush", "heappop"}, "math": {"gcd"}}
 CALLED = {
     "len", "range", "enumerate", "zip", "min", "max", "sum", "abs", "sorted", "reversed", "int", "str", "bool", "list",
     "tuple", "dict", "set", "isinstance", "ord", "repr", "any", "all", "divmod",
 }
 METHODS = {
     "append", "clear", "copy", "count", "endswith", "extend", "find", "get", "index", "insert", "items", "join", "keys",
-    "pop", "replace", "reverse", "setdefault", "split", "startswith", "strip", "update", "values", "bit_length",
+    "partition", "pop", "replace", "reverse", "setdefault", "split", "startswith", "strip", "update", "values", "bit_length",
 }
 NODES = (
     ast.Module, ast.Expr, ast.Constant, ast.ImportFrom, ast.alias, ast.FunctionDef, ast.ClassDef, ast.arguments, ast.arg,
     ast.Return, ast.Assign, ast.AugAssign, ast.If, ast.While, ast.For, ast.Raise, ast.Break, ast.Continue, ast.Pass,
     ast.Call, ast.keyword, ast.Name, ast.Attribute, ast.Subscript, ast.Slice, ast.Tuple, ast.List, ast.Dict, ast.ListComp,
     ast.DictComp, ast.comprehension, ast.BoolOp, ast.UnaryOp, ast.BinOp, ast.Compare, ast.IfExp, ast.expr_context,
-    ast.boolop, ast.unaryop, ast.operator, ast.cmpop, ast.Lambda,
+    ast.boolop, ast.unaryop, ast.operator, ast.cmpop, ast.Lambda, ast.Try, ast.Delete, ast.JoinedStr, ast.FormattedValue,
 )
 KEYWORDS = {"key", "default", "reverse", "start"}
 DUNDERS = {"__init__", "__eq__"}
@@ -46,6 +46,33 @@ INTERFACE = {
     "listing": "all_books many_books book_number book_at sizes filled cheapest",
     "towers": "layers address book_by",
     "exchanges": "put_in taken_out exchanges path is_path",
+    "carried": "cut_down turned_book renamed_book composed",
+    "dividing": "divided divisors",
+    "chances": "shares chance mean",
+    "strangers": "fooled sure_cuts lost is_all_readings",
+    "walkers": "Walker",
+    "stocks": "Stock",
+    "climbs": "Climb",
+    "texts": "web_text book_text lot_text",
+    "reading": "read_web read_book read_lot",
+    "desk": "Desk",
+}
+OWN_METHODS = {
+    ("webs", "Web"): {"__init__": "points arrows", "__eq__": "other"},
+    ("books", "Book"): {"__init__": "web words", "__eq__": "other"},
+    ("walkers", "Walker"): {
+        "__init__": "book", "take": "letter", "text": "", "many": "", "since": "", "back": "", "depth": "", "copy": "",
+        "trying": "action",
+    },
+    ("stocks", "Stock"): {
+        "__init__": "web ways", "put": "text", "drop": "text", "lot": "", "book": "", "back": "", "depth": "", "copy": "",
+        "trying": "action",
+    },
+    ("climbs", "Climb"): {
+        "__init__": "web", "book": "", "up": "number", "down": "", "put": "text", "drop": "text", "back": "", "depth": "",
+        "copy": "", "trying": "action",
+    },
+    ("desk", "Desk"): {"__init__": "", "tell": "line", "undoable": ""},
 }
 
 
@@ -63,6 +90,14 @@ def nodes(kind):
 
 def own_methods():
     return {part.name for _, node in nodes(ast.ClassDef) for part in node.body if isinstance(part, ast.FunctionDef)}
+
+
+def is_plain(node):
+    """Whether a value is written out, tuples within dicts being the deepest that there is."""
+    if isinstance(node, ast.Dict):
+        keys = all(isinstance(key, ast.Constant) for key in node.keys)
+        return keys and all(is_plain(part) and not isinstance(part, ast.Dict) for part in node.values)
+    return isinstance(node, ast.Constant) or isinstance(node, ast.Tuple) and all(isinstance(part, ast.Constant) for part in node.elts)
 
 
 class Form(unittest.TestCase):
@@ -166,7 +201,14 @@ class Form(unittest.TestCase):
             for node in tree.body:
                 self.assertIsInstance(node, (ast.Expr, ast.ImportFrom, ast.FunctionDef, ast.ClassDef, ast.Assign))
                 if isinstance(node, (ast.Expr, ast.Assign)):
-                    self.assertIsInstance(node.value, ast.Constant, name)
+                    self.assertTrue(is_plain(node.value), name)
+
+    def test_a_finally_only_assigns(self):
+        for name, node in nodes(ast.Try):
+            self.assertEqual((node.handlers, node.orelse), ([], []), name)
+            for part in node.finalbody:
+                self.assertIsInstance(part, ast.Assign, name)
+                self.assertIsInstance(part.value, ast.Name, name)
 
     def test_each_thing_has_a_docstring(self):
         for name, tree in TREES.items():
@@ -183,10 +225,12 @@ class Interface(unittest.TestCase):
             for word in words.split():
                 self.assertEqual(getattr(found, word).__module__, "neverjoin." + module)
 
-    def test_equality_is_of_the_class_itself(self):
-        for module, word in (("webs", "Web"), ("books", "Book")):
+    def test_methods_are_of_the_class_itself(self):
+        for (module, word), methods in OWN_METHODS.items():
             kind = getattr(importlib.import_module("neverjoin." + module), word)
-            self.assertIn("__eq__", vars(kind))
+            for method, names in methods.items():
+                self.assertIn(method, vars(kind))
+                self.assertEqual(list(inspect.signature(vars(kind)[method]).parameters), ["self"] + names.split())
 
     def test_arguments(self):
         listed = {
@@ -220,6 +264,15 @@ class Interface(unittest.TestCase):
                 "put_in": "book text", "taken_out": "book text", "exchanges": "book", "path": "one other",
                 "is_path": "one other thing",
             },
+            "carried": {"cut_down": "book web", "turned_book": "book", "renamed_book": "book names", "composed": "book other"},
+            "dividing": {"divided": "book other", "divisors": "book"},
+            "chances": {"shares": "web chances", "chance": "web chances text", "mean": "book chances"},
+            "strangers": {
+                "fooled": "book text guess", "sure_cuts": "book text", "lost": "book text other",
+                "is_all_readings": "book text thing",
+            },
+            "texts": {"web_text": "web", "book_text": "book", "lot_text": "lot"},
+            "reading": {"read_web": "text", "read_book": "text", "read_lot": "web text"},
         }
         for module, words in listed.items():
             for word, names in words.items():
